@@ -23,6 +23,13 @@ def frozen_sets(first, lists, count):
     return frozen_sets(first + 1, lists, count) + with_first
 
 
+def choices(rows, count):
+    """All choices of so many of the rows, each in their order, ascending where the rows ascend."""
+    if count == 0:
+        return [()]
+    return [(rows[at], *more) for at in range(len(rows)) for more in choices(rows[at + 1:], count - 1)]
+
+
 def fillings(done, row, known, lists, items):
     """Iterates over all tuples of so many lists that go on as told, ascending.
 

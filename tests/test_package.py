@@ -24,6 +24,7 @@ class PackageTest(unittest.TestCase):
     def test_modules(self):
         names = {path.stem for path in FILES}
         self.assertLessEqual({"__init__", "errors", "rows", "programs", "starts"}, names)
+        self.assertLessEqual({"heaps", "runs", "alike", "papers"}, names)
 
     def test_imports(self):
         for path in FILES:
