@@ -2,7 +2,7 @@
 
 from samelists.comparing import Comparison
 from samelists.parting import is_parted, least_parted
-from samelists.ways import choices
+from samelists.ways import selections
 
 
 def alike(p, q, *, seen=None, apart=()):
@@ -19,13 +19,13 @@ def least_start(p, q, *, seen=None, apart=()):
 
 def follows(p, q, *, seen=None, apart=()):
     """Whether q ends with the outcome of p from each start meant from which p does not stop."""
-    comparison = Comparison(p, q, seen, apart, is_one_way=True)
+    comparison = Comparison(p, q, seen, apart, unless=p)
     return not is_parted(comparison, comparison.sketches)
 
 
 def least_unlike(p, q, *, seen=None, apart=()):
     """The least start meant that shows that q does not follow p, or None."""
-    comparison = Comparison(p, q, seen, apart, is_one_way=True)
+    comparison = Comparison(p, q, seen, apart, unless=p)
     return least_parted(comparison, comparison.sketches)
 
 
@@ -38,12 +38,12 @@ def pairs_within(sketch, pairs):
 def apart_needed(p, q, *, seen=None):
     """The fewest pairs of names that must hold different lists for the programs to be alike, or None."""
     comparison = Comparison(p, q, seen, ())
-    pairs = choices(comparison.names, 2)
+    pairs = selections(comparison.names, 2)
     parted = [sketch for sketch in comparison.sketches if is_parted(comparison, [sketch])]
     # Each of these sketches is left out if one of its pairs is chosen.
     rows = [pairs_within(sketch, pairs) for sketch in parted]
     for count in range(len(pairs) + 1):
-        for chosen in choices(pairs, count):
+        for chosen in selections(pairs, count):
             if all([any([pair in chosen for pair in row]) for row in rows]):
                 return chosen
     return None

@@ -1,5 +1,7 @@
 """Lists as runs see them: open or frozen, with items, and in a sketch with what is not known of them."""
 
+from samelists.starts import Start
+
 
 class Unknown(Exception):
     """A run asks what its sketch leaves open: the kind of a list, or what stands at an end of its middle.
@@ -136,3 +138,18 @@ def numbers_of(order):
 def items_of(cell, numbers):
     """The items of a cell as numbers; a middle is its mark."""
     return tuple([part.mark if isinstance(part, Middle) else numbers[part] for part in cell.members])
+
+
+def held_at(start):
+    """The new cells that names hold at a start."""
+    cells = cells_of(start)
+    return {name: cells[number] for name, number in zip(start.names, start.holders)}
+
+
+def start_of(held):
+    """The start that names which hold these cells are, with what can be come to from them."""
+    order = all_met([], list(held.values()))
+    numbers = numbers_of(order)
+    holders = {name: numbers[cell] for name, cell in held.items()}
+    lists = [items_of(cell, numbers) for cell in order]
+    return Start(holders, lists, [numbers[cell] for cell in order if cell.frozen])

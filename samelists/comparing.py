@@ -16,20 +16,26 @@ class View:
         return isinstance(other, View) and self.frame == other.frame and self.rows == other.rows
 
 
+def outcome_in(sketch, program):
+    """The outcome of a program in a sketch.
+
+    Raises Unknown for the first question of the run that the sketch leaves open.
+    """
+    return outcome_of(program, sketch.names, sketch.holders, sketch.cells())
+
+
 class Comparison:
     """Two programs, seen as a whole or by names, from the starts in which some names are apart."""
 
-    def __init__(self, p, q, seen, apart, is_one_way=False):
+    def __init__(self, p, q, seen, apart, unless=None):
         told = [] if seen is None else list(seen)
-        pairs = [(one, other) for one, other in apart]
         self.p = p
         self.q = q
         self.by = None if seen is None else ascending(told)
-        # Then starts from which the first program stops are not looked at.
-        self.is_one_way = is_one_way
-        names_apart = [name for pair in pairs for name in pair]
-        self.names = ascending([*p.names, *q.names, *told, *names_apart])
-        self.sketches = first_sketches(self.names, pairs)
+        # Starts from which this program stops are not looked at.
+        self.unless = unless
+        self.names = ascending([*p.names, *q.names, *told])
+        self.sketches = first_sketches(self.names, apart)
 
     def view(self, outcome):
         """What is compared of an outcome."""
@@ -43,9 +49,8 @@ class Comparison:
 
         Raises Unknown for the first question of the runs that the sketch leaves open.
         """
-        first = outcome_of(self.p, sketch.names, sketch.holders, sketch.cells())
-        if self.is_one_way and first.stopped:
+        if self.unless is not None and outcome_in(sketch, self.unless).stopped:
             return None
-        one = self.view(first)
-        other = self.view(outcome_of(self.q, sketch.names, sketch.holders, sketch.cells()))
+        one = self.view(outcome_in(sketch, self.p))
+        other = self.view(outcome_in(sketch, self.q))
         return None if one == other else (one, other)

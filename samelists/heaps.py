@@ -1,10 +1,9 @@
 """Heaps: names and lists that are changed step by step."""
 
-from samelists.cells import Cell, all_met, cells_of, items_of, numbers_of
+from samelists.cells import Cell, held_at, start_of
 from samelists.checks import is_integer
 from samelists.doing import check_names, do_rows
 from samelists.errors import Frozen, NoItem, NoName
-from samelists.starts import Start
 
 
 class Held:
@@ -111,9 +110,8 @@ class Heap:
     """Names that hold lists, which are changed in place, beginning as a start."""
 
     def __init__(self, start):
-        cells = cells_of(start)
         self.names = start.names
-        self._held = {name: cells[number] for name, number in zip(start.names, start.holders)}
+        self._held = held_at(start)
 
     def opened(self, *held):
         """A new open list with these items."""
@@ -125,11 +123,7 @@ class Heap:
 
     def start(self):
         """The start that the heap is now."""
-        order = all_met([], [self._held[name] for name in self.names])
-        numbers = numbers_of(order)
-        holders = {name: numbers[self._held[name]] for name in self.names}
-        lists = [items_of(cell, numbers) for cell in order]
-        return Start(holders, lists, [numbers[cell] for cell in order if cell.frozen])
+        return start_of(self._held)
 
     def run(self, program):
         """Does the rows of a program; what was done ahead of a row that stops stays done."""

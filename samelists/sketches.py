@@ -1,6 +1,7 @@
 """Sketches: parts of all starts, of which only some items and kinds are known."""
 
 from samelists.cells import Cell, Middle
+from samelists.checks import ascending
 from samelists.starts import Start
 from samelists.ways import holdings
 
@@ -99,6 +100,11 @@ def is_apart(names, holders, apart):
 
 
 def first_sketches(names, apart):
-    """One sketch for each way in which names can hold lists, if the pairs of names allow it."""
-    ways = [holders for holders in holdings(len(names)) if is_apart(names, holders, apart)]
-    return [Sketch(names, holders, tuple([fresh_list() for _ in range(len(set(holders)))])) for holders in ways]
+    """One sketch for each way in which these names, and those of the pairs, can hold lists.
+
+    The two names of each pair hold different lists.
+    """
+    names_apart = [name for one, other in apart for name in (one, other)]
+    known = ascending([*names, *names_apart])
+    ways = [holders for holders in holdings(len(known)) if is_apart(known, holders, apart)]
+    return [Sketch(known, holders, tuple([fresh_list() for _ in range(len(set(holders)))])) for holders in ways]

@@ -1,4 +1,4 @@
-"""The ways in which starts can be made: who holds what, what is frozen, which lists hold which."""
+"""All ways to choose from rows, and to make starts: who holds what, what is frozen, which lists hold which."""
 
 
 def holdings(count):
@@ -23,11 +23,21 @@ def frozen_sets(first, lists, count):
     return frozen_sets(first + 1, lists, count) + with_first
 
 
-def choices(rows, count):
+def selections(rows, count):
     """All choices of so many of the rows, each in their order, ascending where the rows ascend."""
     if count == 0:
         return [()]
-    return [(rows[at], *more) for at in range(len(rows)) for more in choices(rows[at + 1:], count - 1)]
+    return [(rows[at], *more) for at in range(len(rows)) for more in selections(rows[at + 1:], count - 1)]
+
+
+def all_parts(rows):
+    """All choices of any number of the rows, each in their order; the tuples of their places ascend."""
+    if len(rows) == 0:
+        return [()]
+    without_first = all_parts(rows[1:])
+    with_first = [(rows[0], *part) for part in without_first]
+    # That of none comes ahead of all others, and is the first one without the first row, too.
+    return [(), *with_first, *without_first[1:]]
 
 
 def fillings(done, row, known, lists, items):

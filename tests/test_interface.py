@@ -15,6 +15,16 @@ FUNCTIONS = {
     "papers": {
         "paper": "(p, q, *, seen=None, apart=())", "paper_holds": "(p, q, paper, *, seen=None, apart=())",
     },
+    "choices": {
+        "may_be_new": "(program, at, *, seen=None, apart=())", "most_new": "(program, *, seen=None, apart=())",
+        "fewest_copies": "(program, *, seen=None, apart=())", "copies_needed": "(program, *, seen=None, apart=())",
+        "idle_rows": "(program, *, seen=None, apart=())", "fewest_rows": "(program, *, seen=None, apart=())",
+        "may_change_places": "(program, at, *, seen=None, apart=())",
+    },
+    "questions": {
+        "can_be_one": "(program, one, other, *, apart=())", "stops": "(program, *, apart=())",
+        "can_change": "(program, name, *, apart=())", "undoes": "(program, other, *, seen=None, apart=())",
+    },
 }
 METHODS = {
     "programs": {"Program": {
@@ -33,6 +43,12 @@ METHODS = {
         },
     },
     "runs": {"Outcome": {"seen": "(self, names)"}},
+    "houses": {"House": {
+        "__init__": "(self, start)", "start": "(self)", "program": "(self)", "do": "(self, row)", "undo": "(self)",
+        "guard": "(self, name)", "release": "(self, name)", "trial": "(self)", "within": "(self, work)",
+        "tried": "(self, rows)",
+    }},
+    "desk": {"Desk": {"__init__": "(self)", "say": "(self, command)"}},
 }
 SIGNS = {
     "heaps": {
@@ -41,6 +57,8 @@ SIGNS = {
                  "__contains__", "__eq__"],
     },
     "runs": {"Outcome": ["__eq__"]},
+    "houses": {"House": ["__len__"]},
+    "desk": {"Desk": ["__len__"]},
 }
 
 
@@ -63,6 +81,10 @@ class InterfaceTest(unittest.TestCase):
                 self.assertEqual(found.__module__, f"samelists.{file}")
                 for method, told in methods.items():
                     self.assertEqual(str(inspect.signature(vars(found)[method])), told, (name, method))
+
+    def test_attributes_are_set_when_an_object_is_created(self):
+        house = module("houses").House(module("starts").Start({"a": 0}, [[]]))
+        self.assertLessEqual({"names", "guarded"}, set(vars(house)))
 
     def test_signs_stand_in_the_classes_themselves(self):
         for file, classes in SIGNS.items():

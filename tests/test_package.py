@@ -25,6 +25,7 @@ class PackageTest(unittest.TestCase):
         names = {path.stem for path in FILES}
         self.assertLessEqual({"__init__", "errors", "rows", "programs", "starts"}, names)
         self.assertLessEqual({"heaps", "runs", "alike", "papers"}, names)
+        self.assertLessEqual({"choices", "questions", "houses", "desk"}, names)
 
     def test_imports(self):
         for path in FILES:
